@@ -1,0 +1,1 @@
+"""Alnage: programs that reckon with quantities."""
