@@ -5,6 +5,11 @@ import pathlib
 import re
 import unittest
 
+LIBRARY = {"math": {"comb", "factorial", "gcd", "isqrt", "lcm", "perm"}}
+BUILTINS = {
+    "len", "range", "enumerate", "zip", "min", "max", "sum", "abs", "sorted", "reversed", "int", "str", "bool", "list",
+    "tuple", "dict", "set", "isinstance", "ord", "repr", "any", "all", "divmod", "ValueError",
+}
 FOLDER = pathlib.Path(__file__).resolve().parent.parent / "alnage"
 
 
@@ -34,15 +39,38 @@ class FormTest(unittest.TestCase):
                     with self.subTest(name + " " + node.name):
                         self.assertLessEqual(node.end_lineno - node.lineno + 1, 40)
 
-    def test_imports_are_of_the_package(self):
+    def test_imports_are_of_the_package_or_a_small_part_of_the_library(self):
         for name, text in sources().items():
             for node in ast.walk(ast.parse(text)):
                 self.assertNotIsInstance(node, ast.Import)
                 if isinstance(node, ast.ImportFrom):
+                    names = {alias.name for alias in node.names}
                     with self.subTest(f"{name} {node.module}"):
                         self.assertEqual(node.level, 0)
-                        self.assertRegex(node.module, r"\Aalnage\.")
-                        self.assertNotIn("*", [alias.name for alias in node.names])
+                        self.assertNotIn("*", names)
+                        if node.module in LIBRARY:
+                            self.assertLessEqual(names, LIBRARY[node.module])
+                        else:
+                            self.assertRegex(node.module, r"\Aalnage\.")
+
+    def test_imports_do_not_go_round(self):
+        wanted = {
+            name[:-3]: [node.module.split(".")[1] for node in ast.walk(ast.parse(text))
+                        if isinstance(node, ast.ImportFrom) and node.module not in LIBRARY]
+            for name, text in sources().items()
+        }
+        while wanted:
+            ready = [name for name in wanted if not set(wanted[name]) & set(wanted)]
+            self.assertTrue(ready, wanted)
+            for name in ready:
+                del wanted[name]
+
+    def test_only_some_builtins_are_used(self):
+        for name, text in sources().items():
+            for node in ast.walk(ast.parse(text)):
+                if isinstance(node, ast.Name) and node.id in dir(builtins):
+                    with self.subTest(name):
+                        self.assertIn(node.id, BUILTINS)
 
     def test_names_are_not_those_of_builtins(self):
         barred = set(dir(builtins))
