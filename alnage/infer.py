@@ -44,8 +44,8 @@ def check_function(program, line):
     equations, result = pose_function(program, line)
     forms, count = solved(equations, name)
     # The unknowns of the parameters are the first ones.
-    told_forms = [forms[number] for number in range(len(parameters))]
-    program.schemes[name] = Scheme(count, told_forms, None if result is None else replaced(result, forms))
+    bound = forms[:len(parameters)]
+    program.schemes[name] = Scheme(count, bound, None if result is None else replaced(result, forms))
     program.functions[name] = (tuple([parameter[0] for parameter in parameters]), e)
 
 
