@@ -50,3 +50,8 @@ def raised(number, exponent):
 
 def is_less(one, two):
     return one[0] * two[1] < two[0] * one[1]
+
+
+def is_pair(value):
+    """Whether a value of any kind is a tuple of two integers."""
+    return type(value) == tuple and len(value) == 2 and all([type(part) == int for part in value])

@@ -31,6 +31,11 @@ def sparse(row):
 
 def shows_none(rows, right, weights):
     """Whether the rows times the weights add up to whole numbers, and the right sides do not."""
+    return rules_out([sparse(row) for row in rows], right, weights)
+
+
+def rules_out(rows, right, weights):
+    """The same for rows that are dicts, as `sparse` gives them."""
     if len(weights) != len(rows):
         return False
     bottom = 1
@@ -49,6 +54,6 @@ def column_sums(rows, factors):
     for row, factor in zip(rows, factors):
         # Most papers leave out most rows.
         if factor != 0:
-            for place, number in sparse(row).items():
+            for place, number in row.items():
                 sums[place] = sums.get(place, 0) + factor * number
     return list(sums.values())

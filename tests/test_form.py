@@ -8,7 +8,7 @@ import unittest
 LIBRARY = {"math": {"comb", "factorial", "gcd", "isqrt", "lcm", "perm"}}
 BUILTINS = {
     "len", "range", "enumerate", "zip", "min", "max", "sum", "abs", "sorted", "reversed", "int", "str", "bool", "list",
-    "tuple", "dict", "set", "isinstance", "ord", "repr", "any", "all", "divmod", "ValueError",
+    "tuple", "dict", "set", "isinstance", "ord", "repr", "any", "all", "divmod", "type", "ValueError",
 }
 FOLDER = pathlib.Path(__file__).resolve().parent.parent / "alnage"
 
